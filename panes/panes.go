@@ -1,0 +1,55 @@
+// Package panes: surfaces of several clients, laid over one another and shown frame by frame: see DOC.md.
+package panes
+
+import (
+	"panes/api"
+	"panes/region"
+)
+
+// Canon tells the one right list for what some rectangles cover (P3).
+func Canon(l []api.Rect) ([]api.Rect, api.Errno) { return combine(l, nil, region.Union) }
+
+// Union tells what one list or the other covers (P4).
+func Union(a, b []api.Rect) ([]api.Rect, api.Errno) { return combine(a, b, region.Union) }
+
+// Intersect tells what both lists cover (P4).
+func Intersect(a, b []api.Rect) ([]api.Rect, api.Errno) { return combine(a, b, region.Intersect) }
+
+// Subtract tells what the first list covers, and the second one does not (P4).
+func Subtract(a, b []api.Rect) ([]api.Rect, api.Errno) { return combine(a, b, region.Subtract) }
+
+// Area tells how many pixels a list covers (P5).
+func Area(l []api.Rect) (int, api.Errno) {
+	if !region.Allowed(l) {
+		return 0, api.ErrRect
+	}
+	return region.Area(l), api.OK
+}
+
+func combine(a, b []api.Rect, how func(a, b []api.Rect) []api.Rect) ([]api.Rect, api.Errno) {
+	if !region.Allowed(a) || !region.Allowed(b) {
+		return nil, api.ErrRect
+	}
+	return how(a, b), api.OK
+}
+
+// Screen shows surfaces.
+type Screen struct{}
+
+// New makes a screen (P6).
+func New(c api.Config) (*Screen, api.Errno) { return nil, api.OK }
+
+// Connect makes a client (P7).
+func (s *Screen) Connect() (int, api.Errno) { return 0, api.OK }
+
+// Disconnect ends a client (P7).
+func (s *Screen) Disconnect(client int) api.Errno { return api.OK }
+
+// Submit hands a transaction in (P8).
+func (s *Screen) Submit(client int, ops []api.Op) api.Errno { return api.OK }
+
+// Tick lets the time go on by one (P9 to P12).
+func (s *Screen) Tick(budget int) (api.Report, api.Errno) { return api.Report{}, api.OK }
+
+// Front tells the pixels that are shown, row by row (P13).
+func (s *Screen) Front() []int { return nil }
