@@ -2,7 +2,11 @@
 package panes
 
 import (
+	"slices"
+
 	"panes/api"
+	"panes/bounds"
+	"panes/clients"
 	"panes/region"
 )
 
@@ -34,19 +38,50 @@ func combine(a, b []api.Rect, how func(a, b []api.Rect) []api.Rect) ([]api.Rect,
 }
 
 // Screen shows surfaces.
-type Screen struct{}
+type Screen struct {
+	config  api.Config
+	clients []*clients.Client // by their numbers; nil where none is connected
+}
 
 // New makes a screen (P6).
-func New(c api.Config) (*Screen, api.Errno) { return nil, api.OK }
+func New(c api.Config) (*Screen, api.Errno) {
+	if !allowed(c) {
+		return nil, api.ErrConfig
+	}
+	return &Screen{config: c, clients: make([]*clients.Client, c.Clients)}, api.OK
+}
+
+func allowed(c api.Config) bool {
+	return bounds.Within(c.W, 1, api.MaxSide) && bounds.Within(c.H, 1, api.MaxSide) &&
+		bounds.Within(c.Clients, 1, api.MaxClients) && bounds.Within(c.Queue, 1, api.MaxQueue) &&
+		bounds.Within(c.Most, 1, api.MaxCost) && bounds.Within(c.Quantum, c.Most, api.MaxQuantum) &&
+		bounds.Within(c.Surfaces, 1, api.MaxSurfaces) && bounds.Within(c.Behind, 1, api.MaxPixel)
+}
 
 // Connect makes a client (P7).
-func (s *Screen) Connect() (int, api.Errno) { return 0, api.OK }
+func (s *Screen) Connect() (int, api.Errno) {
+	free := slices.Index(s.clients, nil)
+	if free < 0 {
+		return 0, api.ErrMany
+	}
+	s.clients[free] = &clients.Client{}
+	return free, api.OK
+}
 
 // Disconnect ends a client (P7).
 func (s *Screen) Disconnect(client int) api.Errno { return api.OK }
 
 // Submit hands a transaction in (P8).
-func (s *Screen) Submit(client int, ops []api.Op) api.Errno { return api.OK }
+func (s *Screen) Submit(client int, ops []api.Op) api.Errno {
+	if !s.connected(client) {
+		return api.ErrInvalid
+	}
+	return s.clients[client].Submit(ops, s.config)
+}
+
+func (s *Screen) connected(client int) bool {
+	return bounds.Within(client, 0, len(s.clients)-1) && s.clients[client] != nil
+}
 
 // Tick lets the time go on by one (P9 to P12).
 func (s *Screen) Tick(budget int) (api.Report, api.Errno) { return api.Report{}, api.OK }

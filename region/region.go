@@ -6,6 +6,7 @@ import (
 	"slices"
 
 	"panes/api"
+	"panes/bounds"
 )
 
 // Allowed tells whether a list may be handed in: how many there are, and each of them.
@@ -15,11 +16,9 @@ func Allowed(l []api.Rect) bool {
 
 // outOfBounds holds every number against its bounds before anything is added up, so that no sum can wrap round.
 func outOfBounds(r api.Rect) bool {
-	return !within(r.X, -api.MaxPlace, api.MaxPlace) || !within(r.Y, -api.MaxPlace, api.MaxPlace) ||
-		!within(r.W, 0, api.MaxPlace) || !within(r.H, 0, api.MaxPlace)
+	return !bounds.Within(r.X, -api.MaxPlace, api.MaxPlace) || !bounds.Within(r.Y, -api.MaxPlace, api.MaxPlace) ||
+		!bounds.Within(r.W, 0, api.MaxPlace) || !bounds.Within(r.H, 0, api.MaxPlace)
 }
-
-func within(n, least, most int) bool { return least <= n && n <= most }
 
 // Union tells the one right list for what one list or the other covers.
 func Union(a, b []api.Rect) []api.Rect { return combine(a, b, either) }
