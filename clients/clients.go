@@ -2,6 +2,8 @@
 package clients
 
 import (
+	"slices"
+
 	"panes/api"
 	"panes/bounds"
 )
@@ -14,8 +16,9 @@ type Transaction struct {
 
 // Client has a queue of transactions that wait, the first one first.
 type Client struct {
-	queue []Transaction
-	owned surfaces // as they will be when all that waits is done
+	queue  []Transaction
+	credit int      // what it may still have admitted
+	owned  surfaces // as they will be when all that waits is done
 }
 
 // Submit lets a transaction wait behind the others, if it may be and there is room (P8).
@@ -33,4 +36,20 @@ func (c *Client) Submit(ops []api.Op, limits api.Config) api.Errno {
 	c.queue = append(c.queue, Transaction{Ops: copies(ops), Cost: cost(ops)})
 	c.owned = owned
 	return api.OK
+}
+
+// Admit gives the client a tick's credit, and takes from its queue what that is enough for, the first one first. Credit is not saved up while nothing waits.
+func (c *Client) Admit(quantum int) []Transaction {
+	c.credit += quantum
+	count := 0
+	for count < len(c.queue) && c.queue[count].Cost <= c.credit {
+		c.credit -= c.queue[count].Cost
+		count++
+	}
+	admitted := slices.Clone(c.queue[:count])
+	c.queue = slices.Delete(c.queue, 0, count)
+	if len(c.queue) == 0 {
+		c.credit = 0
+	}
+	return admitted
 }

@@ -125,3 +125,65 @@ func TestP2NotLookedAt(t *testing.T) {
 		}
 	}
 }
+
+func wantAdmitted(t *testing.T, c *Client, quantum, credit int, marks ...int) {
+	t.Helper()
+	var got []int
+	for _, a := range c.Admit(quantum) {
+		got = append(got, a.Ops[0].Mark)
+	}
+	if !slices.Equal(got, marks) || c.credit != credit {
+		t.Errorf("P9: %v admitted, with a credit of %d left; want %v and %d", got, c.credit, marks, credit)
+	}
+}
+
+// TestP9Admit: the first one first, as far as the credit goes; what is left of it stays as long as something waits.
+func TestP9Admit(t *testing.T) {
+	c := &Client{}
+	wantAdmitted(t, c, 40, 0)
+	submit(t, c, api.OK, ask(1), ask(1), ask(1))
+	submit(t, c, api.OK, ask(2), ask(2), ask(2), ask(2))
+	submit(t, c, api.OK, ask(3))
+	wantAdmitted(t, c, 5, 2, 1)
+	submit(t, c, api.OK, ask(4), ask(4))
+	submit(t, c, api.ErrBusy, ask(5))
+	wantAdmitted(t, c, 3, 0, 2, 3)
+	wantAdmitted(t, c, 1, 1)
+	wantAdmitted(t, c, 4, 0, 4)
+	wantAdmitted(t, c, 4, 0)
+	submit(t, c, api.OK, ask(6), ask(6))
+	wantAdmitted(t, c, 1, 1)
+	wantQueue(t, c, Transaction{Ops: []api.Op{ask(6), ask(6)}, Cost: 2})
+}
+
+// TestP8Admitted: what is admitted makes room, and leaves the surfaces as they are when all that waits is done.
+func TestP8Admitted(t *testing.T) {
+	c := &Client{}
+	for n := range 2 {
+		submit(t, c, api.OK, create(n))
+	}
+	c.Admit(1)
+	submit(t, c, api.ErrInvalid, create(0))
+	submit(t, c, api.ErrInvalid, create(1))
+	submit(t, c, api.OK, api.Op{Kind: api.Destroy})
+	submit(t, c, api.OK, create(0))
+	submit(t, c, api.ErrBusy, ask(1))
+	c.Admit(40)
+	submit(t, c, api.ErrInvalid, create(0))
+	submit(t, c, api.OK, api.Op{Kind: api.Raise})
+}
+
+// TestP9NotKept: nothing that was admitted is kept.
+func TestP9NotKept(t *testing.T) {
+	c := &Client{}
+	submit(t, c, api.OK, create(0), attach(0, 2, 2, 5))
+	submit(t, c, api.OK, attach(0, 2, 2, 6))
+	submit(t, c, api.OK, attach(0, 5, 5, 7))
+	c.Admit(11)
+	for _, room := range c.queue[len(c.queue):cap(c.queue)] {
+		if room.Ops != nil {
+			t.Errorf("%+v is kept", room)
+		}
+	}
+	wantQueue(t, c, Transaction{Ops: []api.Op{attach(0, 5, 5, 7)}, Cost: 26})
+}

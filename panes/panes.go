@@ -7,7 +7,9 @@ import (
 	"panes/api"
 	"panes/bounds"
 	"panes/clients"
+	"panes/frames"
 	"panes/region"
+	"panes/scene"
 )
 
 // Canon tells the one right list for what some rectangles cover (P3).
@@ -41,6 +43,9 @@ func combine(a, b []api.Rect, how func(a, b []api.Rect) []api.Rect) ([]api.Rect,
 type Screen struct {
 	config  api.Config
 	clients []*clients.Client // by their numbers; nil where none is connected
+	scene   *scene.Scene
+	frames  *frames.Frames
+	ticks   int // how many there were
 }
 
 // New makes a screen (P6).
@@ -48,7 +53,12 @@ func New(c api.Config) (*Screen, api.Errno) {
 	if !allowed(c) {
 		return nil, api.ErrConfig
 	}
-	return &Screen{config: c, clients: make([]*clients.Client, c.Clients)}, api.OK
+	return &Screen{
+		config:  c,
+		clients: make([]*clients.Client, c.Clients),
+		scene:   scene.New(c.Behind),
+		frames:  frames.New(c.W, c.H, c.Behind),
+	}, api.OK
 }
 
 func allowed(c api.Config) bool {
@@ -69,7 +79,15 @@ func (s *Screen) Connect() (int, api.Errno) {
 }
 
 // Disconnect ends a client (P7).
-func (s *Screen) Disconnect(client int) api.Errno { return api.OK }
+func (s *Screen) Disconnect(client int) api.Errno {
+	if !s.connected(client) {
+		return api.ErrInvalid
+	}
+	s.clients[client] = nil
+	s.frames.Damage(s.scene.Leave(client))
+	s.frames.Forget(client)
+	return api.OK
+}
 
 // Submit hands a transaction in (P8).
 func (s *Screen) Submit(client int, ops []api.Op) api.Errno {
@@ -83,8 +101,49 @@ func (s *Screen) connected(client int) bool {
 	return bounds.Within(client, 0, len(s.clients)-1) && s.clients[client] != nil
 }
 
-// Tick lets the time go on by one (P9 to P12).
-func (s *Screen) Tick(budget int) (api.Report, api.Errno) { return api.Report{}, api.OK }
+// Tick lets the time go on by one (P9).
+func (s *Screen) Tick(budget int) (report api.Report, errno api.Errno) {
+	if budget < 0 {
+		return api.Report{}, api.ErrInvalid
+	}
+	painting := frames.NewBudget(budget)
+	defer func() { report.Painted = painting.End() }()
+	s.ticks++
+	report.Tick = s.ticks
+	report.Flip, report.Fired = s.frames.Flip()
+	s.frames.Damage(s.scene.Slide())
+	report.Admitted = s.admit()
+	s.frames.Begin(s.ticks, s.scene.At)
+	s.frames.Paint(painting)
+	return report, api.OK
+}
 
-// Front tells the pixels that are shown, row by row (P13).
-func (s *Screen) Front() []int { return nil }
+// admit does what each client's credit is enough for, and tells how many transactions that were.
+func (s *Screen) admit() []int {
+	admitted := make([]int, len(s.clients))
+	for n, c := range s.clients {
+		if c == nil {
+			continue
+		}
+		for _, t := range c.Admit(s.config.Quantum) {
+			s.do(n, t.Ops)
+			admitted[n]++
+		}
+	}
+	return admitted
+}
+
+// do does a transaction. It asks for a frame even if nothing is damaged: its marks must be told.
+func (s *Screen) do(client int, ops []api.Op) {
+	s.frames.Request()
+	for _, op := range ops {
+		if op.Kind == api.Ask {
+			s.frames.Ask(api.Fired{Client: client, Mark: op.Mark})
+			continue
+		}
+		s.frames.Damage(s.scene.Do(client, op))
+	}
+}
+
+// Front tells the pixels that are shown, row by row (P10).
+func (s *Screen) Front() []int { return s.frames.Front() }

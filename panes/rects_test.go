@@ -280,10 +280,10 @@ func withRoom(l []api.Rect) (list, whole []api.Rect) {
 }
 
 // scribble writes over a list and its spare room.
-func scribble(l []api.Rect) {
+func scribble[T any](l []T, with T) {
 	l = l[:cap(l)]
 	for i := range l {
-		l[i] = r(-9, -9, 9, 9)
+		l[i] = with
 	}
 }
 
@@ -303,11 +303,11 @@ func TestP2Memory(t *testing.T) {
 		got, _ := call(a, b)
 		want := slices.Clone(got)
 		again, _ := call(a, b)
-		scribble(again)
+		scribble(again, r(-9, -9, 9, 9))
 		if !slices.Equal(got, want) {
 			t.Errorf("P2: %s: two answers share memory", name)
 		}
-		scribble(got)
+		scribble(got, r(-9, -9, 9, 9))
 		if !slices.Equal(wholeA, keptA) || !slices.Equal(wholeB, keptB) {
 			t.Errorf("P2: %s: a list that was handed in, or its spare room, is written into or shared", name)
 		}
@@ -315,8 +315,8 @@ func TestP2Memory(t *testing.T) {
 		if !slices.Equal(last, want) {
 			t.Errorf("P2: %s: an answer hangs on an earlier one: %v, want %v", name, last, want)
 		}
-		scribble(wholeA)
-		scribble(wholeB)
+		scribble(wholeA, r(-9, -9, 9, 9))
+		scribble(wholeB, r(-9, -9, 9, 9))
 		if !slices.Equal(last, want) {
 			t.Errorf("P2: %s: an answer shares memory with what was handed in", name)
 		}
@@ -333,7 +333,7 @@ func TestP2OneArray(t *testing.T) {
 			if e != api.OK {
 				t.Errorf("P2: %s(%v, %v): %d", name, c.a, c.b, e)
 			}
-			scribble(got)
+			scribble(got, r(-9, -9, 9, 9))
 			if !slices.Equal(array, kept) {
 				t.Fatalf("P2: %s(%v, %v) shares memory with what was handed in", name, c.a, c.b)
 			}

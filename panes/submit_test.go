@@ -355,14 +355,16 @@ func TestP2Submit(t *testing.T) {
 	}
 }
 
-// model is what a client has handed in, told as the document tells it: by going through all that waits each time.
+// model is what a client has handed in, told as the document tells it: by going through all that was done and all that waits each time.
 type model struct {
+	done    []api.Op
 	waiting [][]api.Op
+	credit  int
 }
 
 func (m *model) has(n int, ahead []api.Op) bool {
 	has := false
-	for _, op := range slices.Concat(slices.Concat(m.waiting...), ahead) {
+	for _, op := range slices.Concat(m.done, slices.Concat(m.waiting...), ahead) {
 		if op.Surface == n && op.Kind == api.Create {
 			has = true
 		}
@@ -373,18 +375,34 @@ func (m *model) has(n int, ahead []api.Op) bool {
 	return has
 }
 
-func (m *model) submit(c api.Config, ops []api.Op) api.Errno {
+// admitted lets the first transactions wait no longer. Of what is done only what makes and ends surfaces matters.
+func (m *model) admitted(count int) {
+	for _, op := range slices.Concat(m.waiting[:count]...) {
+		if op.Kind == api.Create || op.Kind == api.Destroy {
+			m.done = append(m.done, op)
+		}
+	}
+	m.waiting = m.waiting[count:]
+}
+
+func costOf(ops []api.Op) int {
 	cost := 0
-	for i, op := range ops {
+	for _, op := range ops {
 		cost++
 		if op.Kind == api.Attach {
 			cost += op.W * op.H
 		}
+	}
+	return cost
+}
+
+func (m *model) submit(c api.Config, ops []api.Op) api.Errno {
+	for i, op := range ops {
 		if op.Kind != api.Ask && (op.Surface >= c.Surfaces || m.has(op.Surface, ops[:i]) == (op.Kind == api.Create)) {
 			return api.ErrInvalid
 		}
 	}
-	if len(ops) == 0 || len(ops) > 20 || cost > c.Most {
+	if len(ops) == 0 || len(ops) > 20 || costOf(ops) > c.Most {
 		return api.ErrInvalid
 	}
 	if len(m.waiting) == c.Queue {

@@ -73,7 +73,7 @@ func edges(lists ...[]api.Rect) []int {
 func pieces(l []api.Rect, top, bottom int) []api.Rect {
 	var found []api.Rect
 	for _, r := range l {
-		p := cut(r, api.Rect{X: r.X, Y: top, W: r.W, H: bottom - top})
+		p := Cut(r, api.Rect{X: r.X, Y: top, W: r.W, H: bottom - top})
 		if p.W > 0 && p.H > 0 {
 			found = append(found, p)
 		}
@@ -81,8 +81,8 @@ func pieces(l []api.Rect, top, bottom int) []api.Rect {
 	return join(found)
 }
 
-// cut tells what two rectangles both cover; without width or height, where they do not meet.
-func cut(p, q api.Rect) api.Rect {
+// Cut tells what two rectangles both cover; without width or height, where they do not meet.
+func Cut(p, q api.Rect) api.Rect {
 	x, y := max(p.X, q.X), max(p.Y, q.Y)
 	right, bottom := min(p.X+p.W, q.X+q.W), min(p.Y+p.H, q.Y+q.H)
 	return api.Rect{X: x, Y: y, W: max(0, right-x), H: max(0, bottom-y)}
@@ -109,7 +109,7 @@ func both(a, b []api.Rect) []api.Rect {
 	var strip []api.Rect
 	for _, p := range a {
 		for _, q := range b {
-			if c := cut(p, q); c.W > 0 {
+			if c := Cut(p, q); c.W > 0 {
 				strip = append(strip, c)
 			}
 		}

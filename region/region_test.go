@@ -17,11 +17,11 @@ func TestCut(t *testing.T) {
 		{api.Rect{X: 5, Y: 2, W: 4, H: 3}, api.Rect{X: 5, Y: 2, W: 0, H: 3}},
 		{api.Rect{X: 1, Y: 9, W: 4, H: 3}, api.Rect{X: 1, Y: 9, W: 4, H: 0}},
 	} {
-		if got := cut(p, c.q); got != c.want {
-			t.Errorf("cut(%v, %v) = %v, want %v", p, c.q, got, c.want)
+		if got := Cut(p, c.q); got != c.want {
+			t.Errorf("Cut(%v, %v) = %v, want %v", p, c.q, got, c.want)
 		}
-		if got := cut(c.q, p); got != c.want {
-			t.Errorf("cut(%v, %v) = %v, want %v", c.q, p, got, c.want)
+		if got := Cut(c.q, p); got != c.want {
+			t.Errorf("Cut(%v, %v) = %v, want %v", c.q, p, got, c.want)
 		}
 	}
 }
