@@ -107,6 +107,7 @@ func (s *Screen) Tick(budget int) (report api.Report, errno api.Errno) {
 		return api.Report{}, api.ErrInvalid
 	}
 	painting := frames.NewBudget(budget)
+	// Painting ends with the budget, or with the frame, or is not begun: what it came to is told in any case.
 	defer func() { report.Painted = painting.End() }()
 	s.ticks++
 	report.Tick = s.ticks

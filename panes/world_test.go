@@ -243,7 +243,7 @@ func worldOp(rnd *rand.Rand, c api.Config) api.Op {
 	case api.Create, api.Move:
 		op.X, op.Y = rnd.Intn(c.W+8)-6, rnd.Intn(c.H+8)-6
 	case api.Attach:
-		op.W, op.H = 1+rnd.Intn(4), 1+rnd.Intn(4)
+		op.W, op.H = 1+rnd.Intn(1+rnd.Intn(8)), 1+rnd.Intn(1+rnd.Intn(8))
 		for range op.W * op.H {
 			op.Pixels = append(op.Pixels, rnd.Intn(3)*rnd.Intn(1000))
 		}
@@ -270,6 +270,9 @@ func worldOps(rnd *rand.Rand, c api.Config, m *model) []api.Op {
 }
 
 func worldConfig(rnd *rand.Rand) api.Config {
+	if rnd.Intn(10) == 0 {
+		return great()
+	}
 	most := 8 + rnd.Intn(40)
 	return api.Config{
 		W: 1 + rnd.Intn(9), H: 1 + rnd.Intn(9), Clients: 1 + rnd.Intn(4), Queue: 1 + rnd.Intn(8),
@@ -313,7 +316,7 @@ func step(rnd *rand.Rand, s *panes.Screen, w *world, most int) (string, any, any
 func TestP11World(t *testing.T) {
 	for seed := range int64(500) {
 		rnd := rand.New(rand.NewSource(seed))
-		c, most := worldConfig(rnd), 1+rnd.Intn(20)
+		c, most := worldConfig(rnd), 1+rnd.Intn(1+rnd.Intn(60))
 		s, w := screen(t, c, 0), newWorld(c)
 		for i := range 300 {
 			if what, got, want := step(rnd, s, w, most); !reflect.DeepEqual(got, want) {
